@@ -291,8 +291,8 @@ func TestFitsSame(t *testing.T) {
 func TestNewMemory(t *testing.T) {
 	recs := records()
 	old := maps.Clone(recs)
-	for _, of := range [][]api.Type{{char}, {arr(3, char)}} {
-		recs["N.A"] = api.Rec{Fields: append(fields(arr(3, of...)), fields(integer)...)[:1]}
+	for _, make := range []func() api.Type{func() api.Type { return arr(3, char) }, func() api.Type { return arr(3, arr(4, char)) }} {
+		recs["N.A"] = api.Rec{Fields: append(fields(make()), fields(integer)...)[:1]}
 		l, _ := Fields("N.A", recs)
 		l[0].T.Of[0].Form = 99
 		if len(l[0].T.Of[0].Of) > 0 {
@@ -300,7 +300,7 @@ func TestNewMemory(t *testing.T) {
 		}
 		_ = append(l, api.Var{Name: "z"})
 		again, _ := Fields("N.A", recs)
-		if !reflect.DeepEqual(again, fields(arr(3, of...))) {
+		if !reflect.DeepEqual(again, fields(make())) {
 			t.Errorf("%v", again)
 		}
 	}
