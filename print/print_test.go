@@ -57,7 +57,7 @@ func TestExpr(t *testing.T) {
 		{con(sets, 0), "{}"}, {con(sets, 1), "{0}"}, {con(sets, -1), "{0 .. 31}"}, {con(sets, 0x2d), "{0, 2 .. 3, 5}"}, {con(sets, math.MinInt32), "{31}"},
 		{add(x, add(y, z)), "x + (y + z)"}, {add(add(x, y), z), "x + y + z"}, {add(x, mul(y, z)), "x + y * z"}, {mul(add(x, y), z), "(x + y) * z"}, {mul(x, mul(y, z)), "x * (y * z)"}, {mul(mul(x, y), z), "x * y * z"},
 		{neg(x), "-x"}, {add(neg(x), y), "-x + y"}, {add(x, neg(y)), "x + (-y)"}, {neg(add(x, y)), "-(x + y)"}, {neg(mul(x, y)), "-x * y"}, {mul(neg(x), y), "(-x) * y"}, {neg(neg(x)), "-(-x)"},
-		{add(num(-1), x), "-1 + x"}, {add(x, num(-1)), "x + (-1)"}, {mul(num(-1), x), "(-1) * x"}, {mul(x, num(math.MinInt32)), "x * 80000000H"}, {op(api.Sub, integer, x, op(api.Sub, integer, y, z)), "x - (y - z)"},
+		{add(num(-1), x), "-1 + x"}, {add(x, num(-1)), "x + (-1)"}, {mul(num(-1), x), "(-1) * x"}, {mul(x, num(math.MinInt32)), "x * 80000000H"}, {mul(x, num(0)), "x * 0"}, {mul(x, num(1)), "x * 1"}, {op(api.Sub, integer, x, op(api.Sub, integer, y, z)), "x - (y - z)"},
 		{op(api.Div, integer, x, y), "x DIV y"}, {op(api.Mod, integer, x, y), "x MOD y"}, {op(api.Div, sets, s, s), "s / s"}, {op(api.Sub, sets, s, op(api.Neg, sets, s)), "s - (-s)"},
 		{op(api.And, boolean, op(api.Or, boolean, a, b), op(api.Not, boolean, a)), "(a OR b) & ~a"}, {op(api.Or, boolean, a, op(api.And, boolean, a, b)), "a OR a & b"}, {op(api.Not, boolean, op(api.Eq, boolean, x, y)), "~(x = y)"}, {op(api.Not, boolean, op(api.Not, boolean, a)), "~~a"},
 		{op(api.Eq, boolean, op(api.Lt, boolean, x, y), op(api.Ge, boolean, x, y)), "(x < y) = (x >= y)"}, {op(api.Ne, boolean, add(x, y), num(-3)), "x + y # -3"}, {op(api.Le, boolean, x, y), "x <= y"}, {op(api.Gt, boolean, x, y), "x > y"}, {op(api.And, boolean, op(api.Le, boolean, x, y), a), "(x <= y) & a"},
@@ -150,6 +150,9 @@ INC(v, 1); DEC(v, x); INCL(s, x); EXCL(s, x); NEW(p); ASSERT(a);
 In.Char(c); Out.Int(x); Out.Char(c); Out.String("s"); Out.Ln
 END M.`
 	if got := Module(module()); symbols(t, got) != symbols(t, want) {
+		t.Errorf("%s", got)
+	}
+	if got := Module(api.Module{Name: "M", Imports: []string{"N"}, Vars: []api.Var{{Name: "v", T: integer}}}); symbols(t, got) != "MODULE M ; IMPORT N ; VAR v : INTEGER ; END M . " {
 		t.Errorf("%s", got)
 	}
 	if got := Module(api.Module{Name: "M"}); symbols(t, got) != "MODULE M ; END M . " {
