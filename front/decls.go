@@ -153,6 +153,7 @@ func (p *parser) typ() api.Type {
 		n := p.length()
 		p.need("OF")
 		t := api.Type{Form: api.Array, N: n, Of: []api.Type{p.typ()}}
+		// Not later: deeper ones would be gone through again and again till then.
 		p.check(nested(t) <= maxTypes, pos, api.ErrLimit)
 		return t
 	case p.take("POINTER"):

@@ -30,7 +30,7 @@ func (p *parser) operand() api.Expr {
 	return api.Expr{}
 }
 
-// isDesignator tells whether an expression is one.
+// isDesignator tells whether an expression is a designator (one in ( ) is, too).
 func isDesignator(e api.Expr) bool {
 	switch e.Op {
 	case api.Name, api.Index, api.Field, api.Deref, api.Guard:
@@ -113,19 +113,15 @@ func (p *parser) index(pos int, x api.Expr) api.Expr {
 
 // isGuard tells whether a record that extends a pointer's is next, in ( ).
 func (p *parser) isGuard(t api.Type) bool {
-	if t.Form != api.Pointer {
+	if t.Form != api.Pointer || p.toks[p.at+1].Kind != api.TokIdent {
 		return false
 	}
-	l := p.toks[p.at+1:]
-	name, behind := l[0].S, 1
-	if e, there := p.find(name); there && e.kind == ofModule && len(l) > 3 && isWord(l[1], ".") {
-		name, behind = name+"."+l[2].S, 3
-	}
-	if len(l) <= behind || l[0].Kind != api.TokIdent || l[behind-1].Kind != api.TokIdent || !isWord(l[behind], ")") {
-		return false
-	}
-	e, there := p.find(name)
-	return there && isRecord(e) && types.Extends(e.t.Name, t.Name, p.recs)
+	was := p.at
+	p.next()
+	_, e, there := p.qual()
+	is := there && isRecord(e) && p.is(")") && types.Extends(e.t.Name, t.Name, p.recs)
+	p.at = was
+	return is
 }
 
 // guard takes such a record.
@@ -147,10 +143,10 @@ func (p *parser) called(pos int, e entry, args []api.Expr) api.Expr {
 	for i, q := range e.params {
 		if q.Ref {
 			p.check(p.isVariable(args[i]) && types.Same(q.T, args[i].T), pos, api.ErrType)
-			continue
+		} else {
+			args[i] = coerced(q.T, args[i])
+			p.check(types.Fits(q.T, args[i].T, p.recs), pos, api.ErrType)
 		}
-		args[i] = coerced(q.T, args[i])
-		p.check(types.Fits(q.T, args[i].T, p.recs), pos, api.ErrType)
 	}
 	return api.Expr{Op: api.Call, T: e.t, S: e.s, X: args}
 }
@@ -172,6 +168,9 @@ func (p *parser) arguments() []api.Expr {
 // function takes a standard function's call.
 func (p *parser) function(pos, op int) api.Expr {
 	l := p.arguments()
+	if op == api.Ord && len(l) == 1 {
+		l[0] = coerced(types.Basic(api.Char), l[0])
+	}
 	p.check(p.isFunctionOf(op, l), pos, api.ErrType)
 	switch op {
 	case lengthOf:

@@ -12,11 +12,11 @@ func (p *parser) procedure() {
 	// Its parameters are to have other names than it.
 	p.declare(d.pos, d.name, entry{kind: ofProc})
 	p.locals = map[string]entry{}
-	words := p.heading(&q)
+	p.heading(&q)
 	p.names[d.name] = entry{kind: ofProc, t: q.Result, s: p.own + d.name, params: q.Params}
 	p.need(";")
 	if p.take("VAR") {
-		p.localVars(&q, words)
+		p.localVars(&q)
 	}
 	q.Body = p.block()
 	p.result(&q)
@@ -25,12 +25,11 @@ func (p *parser) procedure() {
 	p.m.Procs = append(p.m.Procs, q)
 }
 
-// heading takes a procedure's parameters and result's type, and tells how many words its parameters have.
-func (p *parser) heading(q *api.Proc) int {
+// heading takes a procedure's parameters and result's type.
+func (p *parser) heading(q *api.Proc) {
 	if !p.take("(") {
-		return 0
+		return
 	}
-	pos := p.pos()
 	if !p.is(")") {
 		p.params(q)
 		for p.take(";") {
@@ -38,11 +37,9 @@ func (p *parser) heading(q *api.Proc) int {
 		}
 	}
 	p.need(")")
-	p.check(len(q.Params) <= api.MaxFrame, pos, api.ErrLimit)
 	if p.take(":") {
 		q.Result = p.value()
 	}
-	return len(q.Params)
 }
 
 // params takes parameters of one type.
@@ -76,8 +73,9 @@ func (p *parser) value() api.Type {
 	return t
 }
 
-// localVars takes a procedure's variables; its parameters have so many words.
-func (p *parser) localVars(q *api.Proc, words int) {
+// localVars takes a procedure's variables.
+func (p *parser) localVars(q *api.Proc) {
+	words := len(q.Params) // each has one, as a value or as a place
 	for p.isIdent() {
 		names := p.idents()
 		p.need(":")
@@ -93,14 +91,12 @@ func (p *parser) localVars(q *api.Proc, words int) {
 	}
 }
 
-// result takes what a procedure returns, just if it has a result.
+// result takes what a procedure returns, if it has a result.
 func (p *parser) result(q *api.Proc) {
-	has := q.Result.Form != api.NoType
-	p.check(p.is("RETURN") == has, p.pos(), api.ErrSyntax)
-	if !has {
+	if q.Result.Form == api.NoType {
 		return
 	}
-	p.next()
+	p.need("RETURN")
 	pos := p.pos()
 	e := coerced(q.Result, p.expr())
 	p.check(types.Fits(q.Result, e.T, p.recs), pos, api.ErrType)

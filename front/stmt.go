@@ -97,6 +97,9 @@ func (p *parser) command(pos, op int) api.Stmt {
 	if (op == api.Inc || op == api.Dec) && len(l) == 1 {
 		l = append(l, fold.Num(api.Int, 1))
 	}
+	if op == api.PutChar && len(l) == 1 {
+		l[0] = coerced(types.Basic(api.Char), l[0])
+	}
 	p.check(p.isCommandOf(op, l), pos, api.ErrType)
 	return api.Stmt{Op: op, X: l}
 }
@@ -249,7 +252,7 @@ func (p *parser) oneRange(s *api.Stmt, form int) {
 // label takes an end of a range.
 func (p *parser) label(form int) int32 {
 	pos := p.pos()
-	e := p.exprOf(form)
-	p.check(e.Op == api.Lit, pos, api.ErrType)
+	e := coerced(types.Basic(form), p.expr())
+	p.check(e.Op == api.Lit && e.T.Form == form, pos, api.ErrType)
 	return e.I
 }
