@@ -5,6 +5,7 @@ import (
 	"testing"
 
 	"wafer/api"
+	"wafer/recheck"
 	"wafer/types"
 )
 
@@ -19,9 +20,12 @@ type reader struct {
 	names map[string]int // records that the module may name
 }
 
-// typed checks P16.9 of a tree.
+// typed checks P16.9 and P40.1 of a tree.
 func typed(t *testing.T, m api.Module, known []api.Module) {
 	t.Helper()
+	if err := recheck.Check(m, known...); err != api.OK {
+		t.Fatalf("%v: no right tree: %+v", err, m)
+	}
 	r := &reader{t: t, m: m, recs: map[string]api.Rec{}, vars: map[string]api.Type{}, procs: map[string]api.Proc{}, names: map[string]int{}}
 	for _, k := range append([]api.Module{m}, known...) {
 		own := k.Name == m.Name
