@@ -3,7 +3,6 @@ package eval
 import (
 	"wafer/api"
 	"wafer/arith"
-	"wafer/types"
 )
 
 // maxChar is the greatest CHAR.
@@ -18,11 +17,11 @@ func (m *model) place(e api.Expr) place {
 		p := m.place(e.X[0])
 		i := m.value(e.X[1])
 		need(i >= 0 && int(i) < e.X[0].T.N, api.TrapIndex)
-		p.at += int(i) * m.size(e.T)
+		p.at += int(i) * m.plan.Size(e.T)
 		return p
 	case api.Field:
 		p := m.place(e.X[0])
-		p.at += m.field(e.X[0].T.Name, e.S)
+		p.at += m.plan.Field(e.X[0].T.Name, e.S)
 		return p
 	case api.Deref:
 		i := m.value(e.X[0])
@@ -63,7 +62,7 @@ func (m *model) value(e api.Expr) int32 {
 		return m.guard(e)
 	case api.Is:
 		i := m.value(e.X[0])
-		return truth(i != 0 && types.Extends(m.objects[i].record, e.S, m.recs))
+		return truth(i != 0 && m.plan.Extends(m.objects[i].record, e.S))
 	case api.Call:
 		return m.call(e)
 	case api.And:
@@ -101,7 +100,7 @@ func truth(is bool) int32 {
 func (m *model) guard(e api.Expr) int32 {
 	i := m.value(e.X[0])
 	need(i != 0, api.TrapNil)
-	need(types.Extends(m.objects[i].record, e.S, m.recs), api.TrapGuard)
+	need(m.plan.Extends(m.objects[i].record, e.S), api.TrapGuard)
 	return i
 }
 

@@ -62,7 +62,7 @@ func (m *model) assign(to, from api.Expr) {
 		p.mem[p.at+len(from.S)] = 0
 	case to.T.Form == api.Array || to.T.Form == api.Record:
 		q := m.place(from)
-		copy(p.mem[p.at:p.at+m.size(to.T)], q.mem[q.at:])
+		copy(p.mem[p.at:p.at+m.plan.Size(to.T)], q.mem[q.at:])
 	default:
 		v := m.value(from)
 		p.store(v)
@@ -153,7 +153,7 @@ func (m *model) change(s api.Stmt) {
 
 // create makes a record, and keeps the pointer to it.
 func (m *model) create(p place, record string) {
-	n := m.size(api.Type{Form: api.Record, Name: record})
+	n := m.plan.Size(api.Type{Form: api.Record, Name: record})
 	need(n+1 <= m.room, api.TrapHeap)
 	m.room -= n + 1
 	m.objects = append(m.objects, object{record: record, mem: make([]int32, n)})
