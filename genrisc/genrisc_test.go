@@ -104,45 +104,9 @@ func TestChanged(t *testing.T) {
 	}
 }
 
-// unfolded are statements of operators of constants, which front would reckon.
-func unfolded() []api.Stmt {
-	form := func(f int) api.Type { return api.Type{Form: f} }
-	num := func(i int32) api.Expr { return api.Expr{T: form(api.Int), I: i} }
-	op := func(o, f int, x ...api.Expr) api.Expr { return api.Expr{Op: o, T: form(f), X: x} }
-	put := func(e api.Expr) api.Stmt { return api.Stmt{Op: api.PutInt, X: []api.Expr{e}} }
-	ord := func(e api.Expr) api.Stmt { return put(op(api.Ord, api.Int, e)) }
-	null := api.Expr{T: form(api.Nil)}
-	var l []api.Stmt
-	edges := []int32{0, 1, -1, 31, 32, 255, 256, 65535, 65536, -65535, -65536, -65537, 1<<31 - 1, -1 << 31}
-	for _, a := range edges {
-		l = append(l, put(num(a)), put(op(api.Neg, api.Int, num(a))), put(op(api.Abs, api.Int, num(a))), ord(op(api.Odd, api.Bool, num(a))), ord(op(api.Chr, api.Char, num(a))), ord(op(api.SetOf, api.Set, op(api.One, api.NoType, num(a)))), ord(op(api.Neg, api.Set, api.Expr{T: form(api.Set), I: a})))
-		for _, b := range edges {
-			for _, o := range []int{api.Add, api.Sub, api.Mul, api.Div, api.Mod, api.Lsl, api.Asr, api.Ror} {
-				l = append(l, put(op(o, api.Int, num(a), num(b))))
-			}
-			for _, o := range []int{api.Eq, api.Ne, api.Lt, api.Le, api.Gt, api.Ge} {
-				l = append(l, ord(op(o, api.Bool, num(a), num(b))))
-			}
-			for _, o := range []int{api.Add, api.Sub, api.Mul, api.Div} {
-				l = append(l, ord(op(o, api.Set, api.Expr{T: form(api.Set), I: a}, api.Expr{T: form(api.Set), I: b})))
-			}
-			l = append(l, ord(op(api.In, api.Bool, num(a), api.Expr{T: form(api.Set), I: b})), ord(op(api.SetOf, api.Set, op(api.Span, api.NoType, num(a), num(b)))))
-		}
-	}
-	for _, a := range []int32{0, 1} {
-		for _, b := range []int32{0, 1} {
-			for _, o := range []int{api.And, api.Or, api.Eq, api.Ne} {
-				l = append(l, ord(op(o, api.Bool, api.Expr{T: form(api.Bool), I: a}, api.Expr{T: form(api.Bool), I: b})))
-			}
-		}
-		l = append(l, ord(op(api.Not, api.Bool, api.Expr{T: form(api.Bool), I: a})))
-	}
-	return append(l, ord(op(api.SetOf, api.Set)), ord(op(api.Eq, api.Bool, null, null)), ord(op(api.Ne, api.Bool, null, null)), api.Stmt{Op: api.Case, X: []api.Expr{num(1)}})
-}
-
 // P25.1: operators of constants that nobody has reckoned.
 func TestUnfolded(t *testing.T) {
-	for _, s := range unfolded() {
+	for _, s := range sample.Unfolded() {
 		m := api.Module{Name: "M", Imports: []string{"Out"}, Body: []api.Stmt{s, {Op: api.PutLn}}}
 		if err := recheck.Check(m); err != api.OK {
 			t.Fatalf("%v: %v", err, s)
@@ -153,9 +117,7 @@ func TestUnfolded(t *testing.T) {
 
 // P25.1: the greatest frames, as many as may be, beside the greatest heap and the most variables, all registers in use.
 func TestGreat(t *testing.T) {
-	deep := "1 + (1 + (1 + (1 + (1 + (1 + (1 + (1 + (1 + (1 + (1 + f(n - 1, n)))))))))))"
-	deep = strings.Replace(deep, "1 + (1 + (1 + f(n - 1, n)))", "1 + (1 + f(n - 1, n))", 1)
-	src := "MODULE M; IMPORT Out; TYPE R = RECORD a: ARRAY 100 OF INTEGER END; VAR big: ARRAY 1024 OF ARRAY 15 OF INTEGER; big2: ARRAY 1000 OF INTEGER; p: POINTER TO R; i: INTEGER;\nPROCEDURE f(n, m: INTEGER): INTEGER; VAR a, b: ARRAY 1000 OF INTEGER; c: ARRAY 42 OF INTEGER; r, x1, x2, x3: INTEGER; BEGIN FOR x1 := 1 TO 1 DO FOR x2 := 1 TO 1 DO FOR x3 := 1 TO 1 DO NEW(p); a[999] := n; b[999] := n; c[41] := c[41] + n; IF n > 0 THEN r := " + deep + " END END END END; ASSERT((a[999] = n) & (b[999] = n) & (c[41] = n) & (p.a[99] = 0)); p.a[99] := 1; NEW(p) RETURN r + m END f;\nBEGIN big[1023, 14] := 7; i := f(99, 0); Out.Int(i); Out.Int(big[1023, 14]); NEW(p); i := f(100, 0) END M."
+	src := sample.Great()
 	l := compiled(t, src)
 	r := agrees(t, src, nil, 1<<16, l...)
 	if r.Trap != api.TrapStack {
@@ -168,7 +130,7 @@ func TestGreat(t *testing.T) {
 
 // P25.1: a record's last field is as many words away as may be.
 func TestFar(t *testing.T) {
-	src := "MODULE M; IMPORT Out; TYPE E = RECORD END; Z = RECORD a: ARRAY 1024 OF ARRAY 15 OF CHAR; b: ARRAY 1023 OF INTEGER; l: INTEGER; e, f: E END; Y = RECORD (Z) END; VAR p, r: POINTER TO Z; q: POINTER TO Y; BEGIN NEW(p); Out.Char(\"p\"); p.l := 5; p.e := p.f; p^.b[1022] := 3; NEW(q); Out.Char(\"q\"); q.l := 6; r := q; r^ := p^; r.e := p.f; Out.Int(p.l * 10 + q.l * 100 + q.b[1022] + ORD(p.a[1023, 14])) END M."
+	src := sample.Far()
 	agrees(t, src, nil, 40000, compiled(t, src)...)
 	agrees(t, src, nil, 20000, compiled(t, src)...)
 	agrees(t, src, nil, 16385, compiled(t, src)...)
@@ -177,8 +139,7 @@ func TestFar(t *testing.T) {
 
 // P25.1: heaps; of one below 0 as of none.
 func TestHeap(t *testing.T) {
-	src := "MODULE M; IMPORT Out; TYPE R = RECORD a: ARRAY 3 OF INTEGER END; S = RECORD (R) b: CHAR END; E = RECORD END; VAR r: POINTER TO R; s: POINTER TO S; e: POINTER TO E; BEGIN NEW(r); r.a[2] := -1; Out.Char(\"r\"); NEW(s); ASSERT(s.b = 0X); s.b := \"x\"; Out.Char(\"s\"); NEW(e); ASSERT(r.a[2] + 1 = 0); Out.Char(\"e\") END M."
-	l := compiled(t, src)
+	l := compiled(t, sample.Heap())
 	for _, heap := range []int{0, 3, 4, 8, 9, 10, 11, 1 << 16} {
 		agrees(t, strconv.Itoa(heap), nil, heap, l...)
 	}
@@ -218,8 +179,7 @@ func TestErrors(t *testing.T) {
 
 // P25.1: with less fuel what is written is a beginning; with enough it ends.
 func TestFuel(t *testing.T) {
-	src := "MODULE M; IMPORT Out; VAR i, j: INTEGER; PROCEDURE p(n: INTEGER); BEGIN Out.Int(n); IF n > 0 THEN p(n - 1) END END p; BEGIN FOR i := 1 TO 3 DO p(i); Out.String(\"ab\"); Out.Ln END END M."
-	l := compiled(t, src)
+	l := compiled(t, sample.Writes())
 	want := eval.Run(nil, 0, fuel, l...)
 	n := 0
 	for eval.Run(nil, 0, n, l...).End == api.Running {
