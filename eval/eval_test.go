@@ -8,26 +8,12 @@ import (
 	"testing"
 
 	"wafer/api"
-	"wafer/front"
+	"wafer/sample"
 	"wafer/tree"
 )
 
 // much is fuel that none of these programs uses up.
 const much = 1000000
-
-// compiled tells the trees of sources that have no faults, each beside those ahead.
-func compiled(t *testing.T, srcs ...string) []api.Module {
-	t.Helper()
-	var l []api.Module
-	for _, src := range srcs {
-		m, diags := front.Compile(src, l...)
-		if len(diags) > 0 {
-			t.Fatalf("%v ahead of %.40q in\n%s", diags, src[diags[0].Pos:], src)
-		}
-		l = append(l, m)
-	}
-	return l
-}
 
 // head is what is ahead of the statements of most of the programs.
 const head = `MODULE M; IMPORT In, Out;
@@ -50,7 +36,7 @@ func source(stmts string) string { return head + "BEGIN " + stmts + " END M." }
 // does checks what statements do (of input "in").
 func does(t *testing.T, stmts, out string, trap int) {
 	t.Helper()
-	l := compiled(t, source(stmts))
+	l := sample.Trees(source(stmts))
 	before := tree.Clone(l[0])
 	want := api.Result{Out: []byte(out), End: api.Halted}
 	if trap != 0 {
@@ -139,9 +125,9 @@ func TestTraps(t *testing.T) {
 // P23.2: arguments are reckoned ahead of TrapStack, and this ahead of fuel.
 func TestStackOrder(t *testing.T) {
 	src := "MODULE M; IMPORT Out; PROCEDURE p(n, m: INTEGER); BEGIN Out.Char(\".\"); IF n = 100 THEN p(n + 1, 1 DIV (n - 100)) ELSE p(n + 1, 0) END END p; BEGIN p(1, 0) END M."
-	l := compiled(t, src)
+	l := sample.Trees(src)
 	same(t, "division", Run(nil, 0, much, l...), api.Result{Out: bytes.Repeat([]byte("."), 100), End: api.Trapped, Trap: api.TrapDiv})
-	l = compiled(t, strings.Replace(src, "1 DIV (n - 100)", "0", 1))
+	l = sample.Trees(strings.Replace(src, "1 DIV (n - 100)", "0", 1))
 	want := api.Result{Out: bytes.Repeat([]byte("."), 100), End: api.Trapped, Trap: api.TrapStack}
 	same(t, "stack", Run(nil, 0, much, l...), want)
 	// One for each p, its three statements; the last one's call takes none.
@@ -157,7 +143,7 @@ func TestFuel(t *testing.T) {
 	}{
 		{"", 0}, {"i := 1", 1}, {"i := 1; j := 2; Out.Ln", 3}, {"IF TRUE THEN i := 1 END", 2}, {"IF b THEN ELSIF b THEN ELSE i := 1; i := 2 END", 3}, {"WHILE b DO END", 2}, {"WHILE b DO ELSIF b DO END", 3}, {"WHILE i < 3 DO INC(i) END", 1 + 3*2 + 1}, {"WHILE b DO ELSIF i < 2 DO INC(i) END", 1 + 2*3 + 2}, {"REPEAT INC(i) UNTIL i = 3", 1 + 3*2}, {"REPEAT UNTIL TRUE", 2}, {"FOR i := 1 TO 3 DO END", 1 + 4}, {"FOR i := 1 TO 3 DO j := i END", 1 + 3*2 + 1}, {"FOR i := 1 TO 0 DO END", 2}, {"CASE 1 OF 1: i := 1 END", 2}, {"i := say(1)", 1 + 1 + 3}, {"out(say(1))", 1 + 1 + 3 + 1 + 2}, {"deep(3)", 1 + 3 + 3 + 3}, {"i := say(1) + say(2)", 1 + 4 + 4}, {"IF yes(0) THEN ELSIF yes(1) THEN END", 1 + 2 + 2}, {"b := yes(1) & yes(1)", 1 + 2 + 2}, {"b := yes(0) & yes(1)", 1 + 2},
 	} {
-		l := compiled(t, source(x.stmts))
+		l := sample.Trees(source(x.stmts))
 		whole := Run(nil, 0, much, l...)
 		for fuel := range x.n {
 			if r := Run(nil, 0, fuel, l...); r.End != api.Running || r.Trap != 0 || !bytes.HasPrefix(whole.Out, r.Out) {
@@ -169,17 +155,17 @@ func TestFuel(t *testing.T) {
 			t.Errorf("%s: %v", x.stmts, whole)
 		}
 	}
-	forever := compiled(t, "MODULE M; IMPORT Out; VAR i: INTEGER; BEGIN FOR i := 7FFFFFFEH TO 7FFFFFFFH DO Out.Char(\".\") END END M.")
+	forever := sample.Trees("MODULE M; IMPORT Out; VAR i: INTEGER; BEGIN FOR i := 7FFFFFFEH TO 7FFFFFFFH DO Out.Char(\".\") END END M.")
 	same(t, "for ever", Run(nil, 0, 1001, forever...), api.Result{Out: bytes.Repeat([]byte("."), 500)})
 	same(t, "below 0", Run(nil, 0, -1, forever...), api.Result{})
 	same(t, "least", Run(nil, 0, math.MinInt, forever...), api.Result{})
-	same(t, "none, for nothing", Run(nil, 0, -1, compiled(t, "MODULE M; END M.")...), api.Result{End: api.Halted})
+	same(t, "none, for nothing", Run(nil, 0, -1, sample.Trees("MODULE M; END M.")...), api.Result{End: api.Halted})
 	same(t, "no modules", Run(nil, 0, 0), api.Result{End: api.Halted})
 }
 
 // P23.3: words of the heap, just enough and one less.
 func TestHeap(t *testing.T) {
-	l := compiled(t, "MODULE M; TYPE R = RECORD a: ARRAY 3 OF INTEGER END; S = RECORD (R) b: CHAR END; E = RECORD END; VAR r: POINTER TO R; s: POINTER TO S; e: POINTER TO E; BEGIN NEW(r); NEW(s); NEW(e) END M.")
+	l := sample.Trees("MODULE M; TYPE R = RECORD a: ARRAY 3 OF INTEGER END; S = RECORD (R) b: CHAR END; E = RECORD END; VAR r: POINTER TO R; s: POINTER TO S; e: POINTER TO E; BEGIN NEW(r); NEW(s); NEW(e) END M.")
 	for _, x := range []struct{ heap, trap int }{{10, 0}, {9, api.TrapHeap}, {0, api.TrapHeap}, {-1, api.TrapHeap}, {math.MinInt, api.TrapHeap}, {math.MaxInt, 0}} {
 		if r := Run(nil, x.heap, much, l...); r.Trap != x.trap {
 			t.Errorf("%d: %v", x.heap, r)
@@ -191,7 +177,7 @@ func TestHeap(t *testing.T) {
 
 // P23.1: modules one by one; records of one extended by another; variables of another.
 func TestModules(t *testing.T) {
-	l := compiled(t, "MODULE A; IMPORT Out; TYPE R* = RECORD x: INTEGER END; P* = POINTER TO R; VAR v*: INTEGER; p*: P; PROCEDURE q*(VAR n: INTEGER); BEGIN INC(n); INC(v) END q; BEGIN Out.Char(\"A\"); v := 3; NEW(p) END A.",
+	l := sample.Trees("MODULE A; IMPORT Out; TYPE R* = RECORD x: INTEGER END; P* = POINTER TO R; VAR v*: INTEGER; p*: P; PROCEDURE q*(VAR n: INTEGER); BEGIN INC(n); INC(v) END q; BEGIN Out.Char(\"A\"); v := 3; NEW(p) END A.",
 		"MODULE B; IMPORT A, Out; TYPE S = RECORD (A.R) y: INTEGER END; VAR v: INTEGER; s: POINTER TO S; p: A.P; BEGIN Out.Char(\"B\"); A.q(v); Out.Int(A.v); Out.Int(v); A.p.x := 9; NEW(s); s.y := 1; s.x := 2; p := s; Out.Int(p.x); Out.Int(A.p.x); ASSERT(p IS S); p := A.p; ASSERT(~(p IS S)); p(S).y := 1 END B.")
 	want := api.Result{Out: []byte("AB4129"), End: api.Trapped, Trap: api.TrapGuard}
 	same(t, "both", Run(nil, 100, much, l...), want)
@@ -202,7 +188,7 @@ func TestModules(t *testing.T) {
 // P23.4: the same again is the same; what is handed in isn't changed.
 func TestAgain(t *testing.T) {
 	in := []byte("input")
-	l := compiled(t, "MODULE M; IMPORT In, Out; VAR c: CHAR; BEGIN WHILE ~In.Eof() DO In.Char(c); Out.Char(c) END END M.")
+	l := sample.Trees("MODULE M; IMPORT In, Out; VAR c: CHAR; BEGIN WHILE ~In.Eof() DO In.Char(c); Out.Char(c) END END M.")
 	a := Run(in, 0, much, l...)
 	clear(a.Out)
 	same(t, "again", Run(in, 0, much, l...), api.Result{Out: []byte("input"), End: api.Halted})

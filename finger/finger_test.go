@@ -7,19 +7,9 @@ import (
 	"testing"
 
 	"wafer/api"
-	"wafer/front"
+	"wafer/sample"
 	"wafer/tree"
 )
-
-// compiled tells the tree of a source that has no faults.
-func compiled(t *testing.T, src string, mods ...api.Module) api.Module {
-	t.Helper()
-	m, diags := front.Compile(src, mods...)
-	if len(diags) > 0 {
-		t.Fatalf("%v ahead of %.40q in\n%s", diags, src[diags[0].Pos:], src)
-	}
-	return m
-}
 
 const library = `MODULE L; IMPORT In, Out;
 CONST k* = -5; hidden = 1; s* = "a 'b'"; c* = 41X; t* = {0, 31}; b* = TRUE; empty* = "";
@@ -52,7 +42,7 @@ PROCEDURE none ()
 PROCEDURE f (INTEGER, VAR ARRAY 3 OF ARRAY 4 OF CHAR, VAR ARRAY 3 OF ARRAY 4 OF CHAR, POINTER TO L.R): POINTER TO L.R
 PROCEDURE h (VAR CHAR)
 `
-	m := compiled(t, library)
+	m := sample.Trees(library)[0]
 	if got := Text(m); got != want {
 		t.Errorf("%s", got)
 	}
@@ -93,14 +83,14 @@ func TestSum(t *testing.T) {
 			t.Errorf("%q: %x", s, got)
 		}
 	}
-	for _, s := range []string{"\x00\xff\x80", strings.Repeat("wafer", 1000), Text(compiled(t, library))} {
+	for _, s := range []string{"\x00\xff\x80", strings.Repeat("wafer", 1000), Text(sample.Trees(library)[0])} {
 		h := fnv.New64a()
 		h.Write([]byte(s))
 		if got := Sum(s); got != h.Sum64() {
 			t.Errorf("%.20q: %x", s, got)
 		}
 	}
-	m := compiled(t, library)
+	m := sample.Trees(library)[0]
 	if Of(m) != Sum(Text(m)) || Of(api.Module{}) != Sum("MODULE \n") {
 		t.Error("Of")
 	}
@@ -108,7 +98,7 @@ func TestSum(t *testing.T) {
 
 // P18.3: what isn't exported says nothing; all that is does.
 func TestHidden(t *testing.T) {
-	m := compiled(t, library)
+	m := sample.Trees(library)[0]
 	change := func(f func(m *api.Module)) bool {
 		c := tree.Clone(m)
 		f(&c)
@@ -154,7 +144,7 @@ func TestHidden(t *testing.T) {
 			t.Errorf("%d says nothing", i)
 		}
 	}
-	if !reflect.DeepEqual(m, compiled(t, library)) {
+	if !reflect.DeepEqual(m, sample.Trees(library)[0]) {
 		t.Error("changed")
 	}
 }

@@ -3,194 +3,75 @@ package genrisc
 import (
 	"bytes"
 	"math"
-	"strconv"
+	"slices"
 	"strings"
 	"testing"
 
 	"wafer/api"
 	"wafer/eval"
-	"wafer/front"
-	"wafer/need"
-	"wafer/recheck"
 	"wafer/riscvm"
 	"wafer/sample"
 	"wafer/tree"
+	"wafer/trial"
 )
 
-const (
-	fuel  = 20000
-	steps = 3000000 // more than these programs need
-)
-
-// compiled tells the trees of sources that have no faults, each beside those ahead.
-func compiled(t *testing.T, srcs ...string) []api.Module {
-	t.Helper()
-	var l []api.Module
-	for _, src := range srcs {
-		m, diags := front.Compile(src, l...)
-		if len(diags) > 0 {
-			t.Fatalf("%v ahead of %.40q in\n%s", diags, src[diags[0].Pos:], src)
-		}
-		l = append(l, m)
+// run does modules' code.
+func run(in []byte, heap, steps int, mods ...api.Module) (api.Result, api.Errno) {
+	code, words, err := Gen(heap, mods...)
+	if err == api.OK && (words < 0 || words > 1<<20) {
+		err = api.ErrSize
 	}
-	return l
+	if err != api.OK {
+		return api.Result{}, err
+	}
+	return riscvm.New(code, words, in).Run(steps), api.OK
 }
 
-// agrees checks that modules do on the machine what the model says.
-func agrees(t *testing.T, what string, in []byte, heap int, l ...api.Module) api.Result {
-	t.Helper()
-	code, words, err := Gen(heap, l...)
-	if err != api.OK || words < 0 || words > 1<<20 || len(code) == 0 {
-		t.Fatalf("%v, %d words of\n%s", err, words, what)
-	}
-	want := eval.Run(in, heap, fuel, l...)
-	m := riscvm.New(code, words, in)
-	got := m.Run(steps)
-	if want.End != api.Running {
-		if got.End != want.End || got.Trap != want.Trap || !bytes.Equal(got.Out, want.Out) {
-			t.Fatalf("%q, %d, %d, want %q, %d, %d of\n%s", got.Out, got.End, got.Trap, want.Out, want.End, want.Trap, what)
-		}
-	} else if !bytes.HasPrefix(got.Out, want.Out) && !bytes.HasPrefix(want.Out, got.Out) || got.Trap == api.TrapFault {
-		t.Fatalf("%.100q, %d, want %.100q of\n%s", got.Out, got.Trap, want.Out, what)
-	}
-	return want
-}
-
-// P25.1, P25.2: what chapter 23 names.
-func TestPrograms(t *testing.T) {
-	ends := map[int]int{}
-	for _, p := range sample.Programs() {
-		r := agrees(t, strings.Join(p, "\n"), []byte("in\xff"), 100, compiled(t, p...)...)
-		ends[r.Trap]++
-		if r.End == api.Running {
-			t.Errorf("takes too long: %s", p)
-		}
-	}
-	for trap := range api.TrapStack + 1 {
-		if ends[trap] == 0 {
-			t.Errorf("none ends by trap %d", trap)
-		}
+// P25.1, P25.2: what chapter 23 names, modules that are made up, what is great.
+func TestModel(t *testing.T) {
+	for _, s := range trial.Run(run) {
+		t.Error(s)
 	}
 }
 
-// P25.1: modules that are made up.
-func TestMadeUp(t *testing.T) {
-	base := compiled(t, sample.Base)[0]
-	for i := range 700 {
-		m, diags := front.Compile(sample.Module(i), base)
-		if len(diags) == 0 && need.Check(base, m) == api.OK {
-			agrees(t, strconv.Itoa(i)+": "+sample.Module(i), sample.Input(i), 200, base, m)
-		}
-	}
-}
-
-// P25.1: trees that no source has, but are right.
-func TestChanged(t *testing.T) {
-	base := compiled(t, sample.Base)[0]
-	n := 0
-	for i := range 1500 {
-		m, diags := front.Compile(sample.Module(i%300), base)
-		if len(diags) > 0 {
-			continue
-		}
-		m = sample.Change(m, i)
-		if recheck.Check(m, base) == api.OK && need.Check(base, m) == api.OK {
-			n++
-			agrees(t, strconv.Itoa(i)+" changed", sample.Input(i), 200, base, m)
-		}
-	}
-	if n < 300 {
-		t.Errorf("%d", n)
-	}
-}
-
-// P25.1: operators of constants that nobody has reckoned.
-func TestUnfolded(t *testing.T) {
-	for _, s := range sample.Unfolded() {
-		m := api.Module{Name: "M", Imports: []string{"Out"}, Body: []api.Stmt{s, {Op: api.PutLn}}}
-		if err := recheck.Check(m); err != api.OK {
-			t.Fatalf("%v: %v", err, s)
-		}
-		agrees(t, "unfolded", nil, 0, m)
-	}
-}
-
-// P25.1: the greatest frames, as many as may be, beside the greatest heap and the most variables, all registers in use.
-func TestGreat(t *testing.T) {
-	src := sample.Great()
-	l := compiled(t, src)
-	r := agrees(t, src, nil, 1<<16, l...)
-	if r.Trap != api.TrapStack {
-		t.Errorf("%v", r)
-	}
-	if most := need.Most(l[0]); most != api.MaxRegs {
-		t.Errorf("%d registers", most)
-	}
-}
-
-// P25.1: a record's last field is as many words away as may be.
-func TestFar(t *testing.T) {
-	src := sample.Far()
-	agrees(t, src, nil, 40000, compiled(t, src)...)
-	agrees(t, src, nil, 20000, compiled(t, src)...)
-	agrees(t, src, nil, 16385, compiled(t, src)...)
-	agrees(t, src, nil, 16384, compiled(t, src)...)
-}
-
-// P25.1: heaps; of one below 0 as of none.
-func TestHeap(t *testing.T) {
-	l := compiled(t, sample.Heap())
-	for _, heap := range []int{0, 3, 4, 8, 9, 10, 11, 1 << 16} {
-		agrees(t, strconv.Itoa(heap), nil, heap, l...)
-	}
-	none, words, _ := Gen(0, l...)
-	for _, heap := range []int{-1, math.MinInt} {
-		code, w, err := Gen(heap, l...)
-		if err != api.OK || w != words || len(code) != len(none) {
-			t.Errorf("%d: %v", heap, err)
-		}
-		agrees(t, "below 0", nil, heap, l...)
-	}
-	for _, heap := range []int{1<<16 + 1, math.MaxInt} {
-		if code, w, err := Gen(heap, l...); err != api.ErrWords || len(code) > 0 || w != 0 {
-			t.Errorf("%d: %v", heap, err)
-		}
-	}
-}
-
-// P25.1: need's errors.
+// P25.1: the errors, and heaps.
 func TestErrors(t *testing.T) {
-	regs := compiled(t, "MODULE M; VAR i: INTEGER; BEGIN i := 1 + (1 + (1 + (1 + (1 + (1 + (1 + (1 + (1 + (1 + (1 + (1 + i))))))))))) END M.")
-	words := compiled(t, "MODULE A; VAR a: ARRAY 1024 OF ARRAY 9 OF INTEGER; END A.", "MODULE B; VAR a: ARRAY 1024 OF ARRAY 8 OF INTEGER; END B.")
-	for _, x := range []struct {
+	regs := sample.Trees("MODULE M; VAR i: INTEGER; BEGIN i := " + strings.Repeat("1 + (", 12) + "i" + strings.Repeat(")", 12) + " END M.")
+	words := sample.Trees("MODULE A; VAR a: ARRAY 1024 OF ARRAY 9 OF INTEGER; END A.", "MODULE B; VAR a: ARRAY 1024 OF ARRAY 8 OF INTEGER; END B.")
+	for i, x := range []struct {
 		heap int
 		l    []api.Module
 		want api.Errno
-	}{{0, regs, api.ErrRegs}, {1 << 17, regs, api.ErrRegs}, {0, words, api.ErrWords}, {0, words[:1], api.OK}} {
+	}{
+		{0, regs, api.ErrRegs}, {1 << 17, regs, api.ErrRegs}, {0, words, api.ErrWords}, {0, words[:1], api.OK}, {1 << 16, words[:1], api.OK}, {1<<16 + 1, words[:1], api.ErrWords}, {math.MaxInt, nil, api.ErrWords}, {math.MinInt, nil, api.OK},
+	} {
 		code, n, err := Gen(x.heap, x.l...)
 		if err != x.want || err != api.OK && (len(code) > 0 || n != 0) {
-			t.Errorf("%v, want %v", err, x.want)
+			t.Errorf("%d: %v, want %v", i, err, x.want)
 		}
 	}
-	agrees(t, "no modules", nil, 0)
-	m := compiled(t, "MODULE M; IMPORT Out; BEGIN Out.Int(3) END M.")[0]
-	agrees(t, "the first of a name", nil, 0, m, api.Module{Name: "M", Body: []api.Stmt{{Op: api.PutLn}}})
+	code, n, _ := Gen(0, words[:1]...)
+	code2, n2, _ := Gen(math.MinInt, words[:1]...)
+	if !slices.Equal(code, code2) || n != n2 {
+		t.Error("a heap below 0 isn't none")
+	}
 }
 
 // P25.1: with less fuel what is written is a beginning; with enough it ends.
 func TestFuel(t *testing.T) {
-	l := compiled(t, sample.Writes())
-	want := eval.Run(nil, 0, fuel, l...)
+	l := sample.Trees(sample.Writes())
 	n := 0
-	for eval.Run(nil, 0, n, l...).End == api.Running {
+	want := eval.Run(nil, 0, n, l...)
+	for want.End == api.Running {
 		n++
+		want = eval.Run(nil, 0, n, l...)
 	}
 	code, words, _ := Gen(0, l...)
-	last := -1
-	for f := 0; last < len(want.Out); f++ {
-		r := riscvm.New(code, words, nil).Run(f)
+	last := 0
+	for steps := 0; last < len(want.Out); steps++ {
+		r := riscvm.New(code, words, nil).Run(steps)
 		if !bytes.HasPrefix(want.Out, r.Out) || len(r.Out) < last {
-			t.Fatalf("%d: %q", f, r.Out)
+			t.Fatalf("%d: %q", steps, r.Out)
 		}
 		last = len(r.Out)
 	}
@@ -202,19 +83,16 @@ func TestFuel(t *testing.T) {
 
 // The same again is the same; what is handed in isn't changed; trees that aren't right lead to no panic.
 func TestAgain(t *testing.T) {
-	l := compiled(t, sample.Base, sample.Module(1))
+	l := sample.Trees(sample.Base, sample.Module(1))
 	before := tree.Clone(l[1])
 	a, n, _ := Gen(100, l...)
 	b, m, _ := Gen(100, l...)
-	same := len(a) == len(b) && n == m
-	for i := range a {
-		same = same && a[i] == b[i]
-	}
-	if !same || !tree.Same(before, l[1]) {
+	if !slices.Equal(a, b) || n != m || !tree.Same(before, l[1]) {
 		t.Error("another one")
 	}
-	name := api.Expr{Op: api.Name, S: "M.x", T: api.Type{Form: api.Int}}
-	for _, s := range []api.Stmt{{Op: api.Assign}, {Op: api.Assign, X: []api.Expr{name, name}}, {Op: api.Do, X: []api.Expr{{Op: api.Call, S: "M.p"}}}, {Op: api.Repeat}, {Op: api.For, X: []api.Expr{name, name, name}}, {Op: api.Case, X: []api.Expr{{}}, I: []int32{0, 0, 9}}, {Op: 99}, {Op: api.PutInt, X: []api.Expr{{Op: 99}}}, {Op: api.PutStr, X: []api.Expr{{Op: api.Index}}}} {
-		Gen(0, api.Module{Name: "M", Body: []api.Stmt{s}})
+	for i, s := range sample.Wrong() {
+		if code, n, err := Gen(0, api.Module{Name: "M", Body: []api.Stmt{s}}); err != api.OK && (len(code) > 0 || n != 0) {
+			t.Errorf("%d", i)
+		}
 	}
 }

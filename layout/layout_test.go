@@ -4,22 +4,8 @@ import (
 	"testing"
 
 	"wafer/api"
-	"wafer/front"
+	"wafer/sample"
 )
-
-// compiled tells the trees of sources that have no faults, each beside those ahead.
-func compiled(t *testing.T, srcs ...string) []api.Module {
-	t.Helper()
-	var l []api.Module
-	for _, src := range srcs {
-		m, diags := front.Compile(src, l...)
-		if len(diags) > 0 {
-			t.Fatalf("%v ahead of %.40q in\n%s", diags, src[diags[0].Pos:], src)
-		}
-		l = append(l, m)
-	}
-	return l
-}
 
 const (
 	base  = "MODULE A; TYPE R* = RECORD x: INTEGER; a: ARRAY 3 OF CHAR END; Z = RECORD END; S* = RECORD (R) y: ARRAY 2 OF R; z: SET END; VAR r: R; i: INTEGER; s: S; END A."
@@ -28,7 +14,7 @@ const (
 
 // Sizes, and where fields and variables stand.
 func TestPlaces(t *testing.T) {
-	l := compiled(t, base, other)
+	l := sample.Trees(base, other)
 	p := New(l)
 	for name, want := range map[string]int{"A.R": 4, "A.Z": 0, "A.S": 13, "B.T": 14, "B.U": 4, "B.V": 14} {
 		typ := api.Type{Form: api.Record, Name: name}
@@ -57,7 +43,7 @@ func TestPlaces(t *testing.T) {
 
 // A record's number is among another's, if it extends that.
 func TestKin(t *testing.T) {
-	p := New(compiled(t, base, other))
+	p := New(sample.Trees(base, other))
 	names := []string{"A.R", "A.Z", "A.S", "B.T", "B.U", "B.V"}
 	met := map[int]bool{}
 	for _, a := range names {

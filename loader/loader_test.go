@@ -21,20 +21,6 @@ import (
 	"wafer/varint"
 )
 
-// compiled tells the trees of sources that have no faults, each beside those ahead.
-func compiled(t *testing.T, srcs ...string) []api.Module {
-	t.Helper()
-	var l []api.Module
-	for _, src := range srcs {
-		m, diags := front.Compile(src, l...)
-		if len(diags) > 0 {
-			t.Fatalf("%v ahead of %.40q in\n%s", diags, src[diags[0].Pos:], src)
-		}
-		l = append(l, m)
-	}
-	return l
-}
-
 // pack tells the file of a module that has one.
 func pack(t *testing.T, m api.Module, mods ...api.Module) []byte {
 	t.Helper()
@@ -77,7 +63,7 @@ func sources() []string {
 
 // P27.1: how a file looks.
 func TestPack(t *testing.T) {
-	l := compiled(t, sources()...)
+	l := sample.Trees(sources()...)
 	for i, m := range l {
 		tree, _ := slim.Encode(m)
 		want := append(varint.Put(nil, uint64(len(tree))), tree...)
@@ -116,7 +102,7 @@ func TestPack(t *testing.T) {
 // P27.1: sources into files.
 func TestCompile(t *testing.T) {
 	srcs := sources()
-	l := compiled(t, srcs...)
+	l := sample.Trees(srcs...)
 	files, which, diags := Compile(srcs...)
 	if len(files) != 3 || which != 0 || len(diags) != 0 {
 		t.Fatalf("%d, %d, %v", len(files), which, diags)
@@ -146,7 +132,7 @@ func TestCompile(t *testing.T) {
 // P27.2: what is loaded, in whatever order, is run on both targets.
 func TestLoad(t *testing.T) {
 	files, _, _ := Compile(sources()...)
-	l := compiled(t, sources()...)
+	l := sample.Trees(sources()...)
 	want := eval.Run([]byte("xy"), 10, 1000, l...)
 	if string(want.Out) != "A7xy10" {
 		t.Fatalf("%q", want.Out)
@@ -205,7 +191,7 @@ func boxed(kind byte, payload ...[]byte) []byte {
 
 // P27.2: files that are none.
 func TestBytes(t *testing.T) {
-	l := compiled(t, sources()...)
+	l := sample.Trees(sources()...)
 	good, other := pack(t, l[0]), pack(t, l[1], l[0])
 	code, _ := slim.Encode(l[0])
 	size := varint.Put(nil, uint64(len(code)))
@@ -232,7 +218,7 @@ func TestBytes(t *testing.T) {
 
 // P27.2: modules that can't be loaded together.
 func TestTogether(t *testing.T) {
-	l := compiled(t, sources()...)
+	l := sample.Trees(sources()...)
 	a, b, c := pack(t, l[0]), pack(t, l[1], l[0]), pack(t, l[2], l[0], l[1])
 	loaded(t, "twice", api.ErrTwice, a, b, a)
 	loaded(t, "without A", api.ErrImport, b, c)
@@ -258,11 +244,11 @@ func TestTogether(t *testing.T) {
 		loaded(t, what, x.want, a, pack(t, x.m))
 	}
 	// What another one of that name exports has another number; what isn't exported has none.
-	other := compiled(t, strings.Replace(first, "k* = 3", "k* = 4", 1))[0]
+	other := sample.Trees(strings.Replace(first, "k* = 3", "k* = 4", 1))[0]
 	loaded(t, "finger", api.ErrFinger, pack(t, other), b)
 	loaded(t, "finger, and worse", api.ErrFinger, pack(t, other), b, pack(t, api.Module{Name: "Z", Imports: []string{"B"}, Vars: []api.Var{{Name: "v"}}}))
 	loaded(t, "wrong, and finger", api.ErrName, pack(t, other), pack(t, api.Module{Name: "Z", Imports: []string{"A"}, Vars: []api.Var{{Name: "1"}}}))
-	hidden := compiled(t, strings.Replace(first, "hidden: CHAR", "secret: SET", 1))[0]
+	hidden := sample.Trees(strings.Replace(first, "hidden: CHAR", "secret: SET", 1))[0]
 	loaded(t, "hidden", api.OK, pack(t, hidden), b)
 	loaded(t, "without numbers", api.ErrFinger, a, pack(t, l[1]))
 }
@@ -289,7 +275,7 @@ func TestNeed(t *testing.T) {
 
 // P40.5: what is right, and need.Check takes, is loaded; P40.3: as that tree.
 func TestAccepted(t *testing.T) {
-	base := compiled(t, sample.Base)[0]
+	base := sample.Trees(sample.Base)[0]
 	file := pack(t, base)
 	n := 0
 	for i := range 400 {

@@ -264,22 +264,8 @@ func TestAgain(t *testing.T) {
 		t.Errorf("%d goroutines, %d before", n, before)
 	}
 	l := []string{ahead, user}
-	m := eval.Run(nil, 0, 100, compiled(t, l)...)
+	m := eval.Run(nil, 0, 100, sample.Trees(l...)...)
 	if r, _ := Run(api.Stack, nil, 0, 1000, l...); !reflect.DeepEqual(r, m) || l[0] != ahead {
 		t.Errorf("%v, %v", r, m)
 	}
-}
-
-// compiled tells the trees of sources that have no faults, each beside those ahead.
-func compiled(t *testing.T, srcs []string) []api.Module {
-	t.Helper()
-	var l []api.Module
-	for _, src := range srcs {
-		m, diags := front.Compile(src, l...)
-		if len(diags) > 0 {
-			t.Fatalf("%v", diags)
-		}
-		l = append(l, m)
-	}
-	return l
 }

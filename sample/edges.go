@@ -57,3 +57,12 @@ func Heap() string {
 func Writes() string {
 	return "MODULE M; IMPORT Out; VAR i, j: INTEGER; PROCEDURE p(n: INTEGER); BEGIN Out.Int(n); IF n > 0 THEN p(n - 1) END END p; BEGIN FOR i := 1 TO 3 DO p(i); Out.String(\"ab\"); Out.Ln END END M."
 }
+
+// Wrong tells statements that no right tree has.
+func Wrong() []api.Stmt {
+	name := api.Expr{Op: api.Name, S: "M.x", T: api.Type{Form: api.Int}}
+	return []api.Stmt{
+		{Op: -1}, {Op: 99}, {Op: api.Assign}, {Op: api.Assign, X: []api.Expr{name, name}}, {Op: api.Do, X: []api.Expr{{Op: api.Call, S: "M.p"}}}, {Op: api.If}, {Op: api.While, X: []api.Expr{{}}}, {Op: api.Repeat}, {Op: api.For, X: []api.Expr{name, name, name}}, {Op: api.Case, X: []api.Expr{{}}, I: []int32{0, 0, 9}}, {Op: api.Inc}, {Op: api.New, X: []api.Expr{name}},
+		{Op: api.PutInt, X: []api.Expr{{Op: 99}}}, {Op: api.PutInt, X: []api.Expr{{Op: api.Add}}}, {Op: api.PutStr, X: []api.Expr{{Op: api.Index}}}, {Op: api.PutStr, X: []api.Expr{{Op: api.Guard}}}, {Op: api.Assert, X: []api.Expr{{Op: api.Is, X: []api.Expr{{I: 9}}}}},
+	}
+}

@@ -1,7 +1,12 @@
 // Package sample makes up modules to try the layers with: each number stands for other ones.
 package sample
 
-import "strconv"
+import (
+	"strconv"
+
+	"wafer/api"
+	"wafer/front"
+)
 
 // Types of what is made up.
 const (
@@ -76,6 +81,19 @@ func Module(number int) string {
 	m.body(3, 6+m.pick(8))
 	m.put("\nEND M.\n")
 	return string(m.text)
+}
+
+// Trees tells the trees of sources, each beside those ahead. It gives up, where a source has a fault.
+func Trees(srcs ...string) []api.Module {
+	var l []api.Module
+	for _, src := range srcs {
+		m, diags := front.Compile(src, l...)
+		if len(diags) > 0 {
+			panic(diags[0].Err.Error() + " ahead of " + src[diags[0].Pos:])
+		}
+		l = append(l, m)
+	}
+	return l
 }
 
 // Input tells an input for a module.

@@ -10,19 +10,9 @@ import (
 	"wafer/tree"
 )
 
-// compiled tells the tree of a source that has no faults.
-func compiled(t *testing.T, src string, mods ...api.Module) api.Module {
-	t.Helper()
-	m, diags := front.Compile(src, mods...)
-	if len(diags) > 0 {
-		t.Fatalf("%v ahead of %.40q in\n%s", diags, src[diags[0].Pos:], src)
-	}
-	return m
-}
-
 // Almost all modules that are made up have no faults, each is another one, and each is made again.
 func TestModule(t *testing.T) {
-	base := compiled(t, Base)
+	base := Trees(Base)[0]
 	met := map[string]bool{}
 	wrong := 0
 	for i := range 500 {
@@ -43,16 +33,25 @@ func TestModule(t *testing.T) {
 // What is given has no faults.
 func TestPrograms(t *testing.T) {
 	for _, p := range Programs() {
-		var l []api.Module
-		for _, src := range p {
-			l = append(l, compiled(t, src, l...))
+		if l := Trees(p...); len(l) != len(p) {
+			t.Errorf("%d of %d", len(l), len(p))
 		}
 	}
 }
 
+// A source with a fault has no tree, and who asks for it is told so.
+func TestTrees(t *testing.T) {
+	defer func() {
+		if recover() == nil {
+			t.Error("a tree")
+		}
+	}()
+	Trees("MODULE M; END N.")
+}
+
 // Many changed modules are right, and the one that is changed stays as it is.
 func TestChange(t *testing.T) {
-	base := compiled(t, Base)
+	base := Trees(Base)[0]
 	right, unlike := 0, 0
 	for i := range 300 {
 		m, diags := front.Compile(Module(i), base)
