@@ -26,6 +26,7 @@ PROCEDURE yes(n: INTEGER): BOOLEAN; BEGIN Out.Int(n) RETURN n > 0 END yes;
 PROCEDURE set(VAR v: INTEGER; n: INTEGER): INTEGER; BEGIN v := n RETURN n END set;
 PROCEDURE move(VAR v: P; n: P): INTEGER; BEGIN v := n RETURN 0 END move;
 PROCEDURE fib(n: INTEGER): INTEGER; VAR r1: INTEGER; BEGIN IF n < 2 THEN r1 := n ELSE r1 := fib(n - 1) + fib(n - 2) END RETURN r1 END fib;
+PROCEDURE swap(VAR x: INTEGER; n: INTEGER; VAR y, z: INTEGER); VAR h: INTEGER; BEGIN h := x; x := y; y := z + n; z := h END swap;
 PROCEDURE deep(n: INTEGER); BEGIN IF n > 1 THEN deep(n - 1) ELSE Out.Char("!") END END deep;
 PROCEDURE fresh; VAR l: INTEGER; la: ARRAY 2 OF CHAR; lp: POINTER TO R; BEGIN out(l + ORD(la[1])); ASSERT(lp = NIL); l := 5; la[1] := "x"; NEW(lp) END fresh;
 `
@@ -62,7 +63,7 @@ func TestExpressions(t *testing.T) {
 		expr string
 		want int
 	}{
-		{"1 + 1", 2}, {"i", 0}, {"i + max + 1", math.MinInt32}, {"i - max - 2", math.MaxInt32}, {"(i + max) * 2", -2}, {"-(i + min)", math.MinInt32}, {"ABS(i + min)", math.MinInt32}, {"ABS(i - 5)", 5}, {"(i - 7) DIV 2", -4}, {"(i - 7) MOD 2", 1}, {"(i + 7) DIV 2", 3}, {"LSL(i + 1, 33)", 2}, {"LSL(i + 1, -1)", math.MinInt32}, {"ASR(i - 8, 1)", -4}, {"ROR(i + 1, 1)", math.MinInt32}, {"ORD(CHR(i + 255))", 255}, {"ORD(i = 0)", 1}, {"ORD({i, 2 .. i + 4})", 29}, {"ORD(-(s + {i}))", -2}, {"ORD({i .. 3} - {1})", 13}, {"ORD({i .. 3} * {1, 9})", 2}, {"ORD({i .. 3} / {1, 9})", 15 - 2 + 512}, {"ORD({i + 3 .. 2})", 0}, {"ORD({i + 31})", math.MinInt32},
+		{"1 + 1", 2}, {"i", 0}, {"i + max + 1", math.MinInt32}, {"i - max - 2", math.MaxInt32}, {"(i + max) * 2", -2}, {"-(i + min)", math.MinInt32}, {"ABS(i + min)", math.MinInt32}, {"ABS(i - 5)", 5}, {"(i - 7) DIV 2", -4}, {"(i - 7) MOD 2", 1}, {"(i + 7) DIV 2", 3}, {"LSL(i + 1, 33)", 2}, {"LSL(i + 1, -1)", math.MinInt32}, {"ASR(i - 8, 1)", -4}, {"ROR(i + 1, 1)", math.MinInt32}, {"ORD(CHR(i + 255))", 255}, {"ORD(CHR(i))", 0}, {"ORD(i = 0)", 1}, {"ORD({i, 2 .. i + 4})", 29}, {"ORD(-(s + {i}))", -2}, {"ORD({i .. 3} - {1})", 13}, {"ORD({i .. 3} * {1, 9})", 2}, {"ORD({i .. 3} / {1, 9})", 15 - 2 + 512}, {"ORD({i + 3 .. 2})", 0}, {"ORD({i + 31})", math.MinInt32},
 		{"ORD(ODD(i + 3))", 1}, {"ORD(ODD(i - 3))", 1}, {"ORD(ODD(i + 2))", 0}, {"ORD(~(i = 1))", 1}, {"ORD(i # 0)", 0}, {"ORD((i < 1) & (i <= 0) & ~(i > 0) & (i >= 0))", 1}, {"ORD((i < 0) OR (i <= -1) OR (i > 0) OR (i >= 1))", 0}, {"ORD(c < \"a\")", 1}, {"ORD(i IN {i})", 1}, {"ORD(i + 1 IN {i})", 0}, {"ORD(i - 1 IN s - {1})", 0}, {"ORD(i + 32 IN -s)", 0}, {"ORD(s = {})", 1}, {"ORD(s # {i})", 1}, {"ORD(b = o)", 1}, {"ORD(p = NIL)", 1}, {"ORD(ps # p)", 0}, {"ORD(p IS S)", 0}, {"fib(10)", 55}, {"ORD(In.Eof())", 0}, {"ORD(c)", 0}, {"LEN(m)", 2}, {"LEN(m[1])", 3}, {"ORD(i + min < max)", 1}, {"ORD(max + i > min)", 1},
 	} {
 		does(t, "out("+x.expr+")", strconv.Itoa(x.want)+" ", 0)
@@ -89,7 +90,7 @@ func TestStatements(t *testing.T) {
 		{"", ""}, {"Out.Int(min); Out.Ln; Out.Int(-7); Out.Int(0)", "-2147483648\n-70"}, {"Out.String(\"hi\"); Out.String(\"\"); Out.String(t)", "hi"}, {"t := \"abcd\"; Out.String(t); t := \"x\"; Out.String(t); Out.Char(t[2]); t2 := t; Out.String(t2); t[1] := \"y\"; Out.String(t2); Out.String(t)", "abcdxcxxxycd"}, {"FOR i := 0 TO 4 DO t[i] := CHR(i + 65) END; Out.String(t)", "ABCDE"}, {"Out.Char(0X); Out.Char(0FFX)", "\x00\xff"},
 		{"In.Char(c); Out.Char(c); b := In.Eof(); In.Char(c); Out.Char(c); out(ORD(In.Eof())); c := \"z\"; In.Char(c); out(ORD(c)); In.Char(c); out(ORD(c))", "in1 0 0 "},
 		{"fresh; fresh", "0 0 "}, {"deep(100)", "!"}, {"i := 3; r.x := 4; r2 := r; r.x := 5; out(r2.x); sr.a[2] := 6; sr.x := 1; a[3] := sr.a[2]; out(a[3])", "4 6 "}, {"m[1, 2] := 7; m[0] := m[1]; m[1, 2] := 8; out(m[0, 2]); out(m[0, 1])", "7 0 "},
-		{"NEW(ps); ps.x := 3; ps.y := \"q\"; p := ps; out(p.x); Out.Char(p(S).y); out(ORD(p IS S)); out(ORD(p IS T)); out(ORD(p IS R)); p^ := r; out(ps.x); Out.Char(ps.y)", "3 q1 0 1 0 q"}, {"NEW(pt); ps := pt; p := ps; out(ORD(p IS T)); p(T).a[1] := 3; out(ps.a[1])", "1 3 "}, {"NEW(p); q := p; out(ORD(p = q)); NEW(q); out(ORD(p = q)); out(ORD(p # NIL)); p := NIL; out(ORD(p = NIL)); p := q; p.n := p; p.n.n.n.x := 4; out(q.x)", "1 0 1 1 4 "}, {"NEW(e)", ""},
+		{"NEW(ps); ps.x := 3; ps.y := \"q\"; p := ps; out(p.x); Out.Char(p(S).y); out(ORD(p IS S)); out(ORD(p IS T)); out(ORD(p IS R)); p^ := r; out(ps.x); Out.Char(ps.y)", "3 q1 0 1 0 q"}, {"NEW(pt); ps := pt; p := ps; out(ORD(p IS T)); p(T).a[1] := 3; out(ps.a[1])", "1 3 "}, {"NEW(p); q := p; out(ORD(p = q)); NEW(q); out(ORD(p = q)); out(ORD(p # NIL)); p := NIL; out(ORD(p = NIL)); p := q; p.n := p; p.n.n.n.x := 4; out(q.x)", "1 0 1 1 4 "}, {"NEW(e)", ""}, {"i := 1; j := 2; k := 3; swap(i, 10, j, k); out(i); out(j); out(k); swap(a[i], 1, a[j MOD 4], i); out(i); out(a[2]); out(a[1])", "2 13 1 0 0 3 "},
 		{"s := {1, 5}; INCL(s, 31); EXCL(s, 5); EXCL(s, 4); out(ORD(s - {31})); out(ORD(31 IN s))", "2 1 "}, {"i := max; INC(i); out(i); DEC(i); out(i); i := 5; INC(i, -7); out(i); DEC(i, min); out(i)", "-2147483648 2147483647 -2 2147483646 "},
 		{"i := 5; WHILE i > 3 DO out(i); DEC(i) ELSIF i > 0 DO out(-i); DEC(i, 2) END; REPEAT out(i); INC(i) UNTIL i > 1", "5 4 -3 -1 -1 0 1 "}, {"WHILE b DO END; IF b THEN out(1) END; IF b THEN ELSE out(2) END", "2 "}, {"FOR i := -1 TO 8 DO CASE i OF -1, 1 .. 2: out(1) | 0: out(2) | 5 .. 8, 3, 4: out(3) END END", "1 2 1 1 3 3 3 3 3 3 "}, {"c := \"m\"; CASE c OF \"a\" .. \"l\": out(1) | \"m\": out(2) END", "2 "},
 	} {
@@ -173,6 +174,13 @@ func TestHeap(t *testing.T) {
 	}
 	// The pointer's place comes first.
 	does(t, "WHILE i < 33 DO NEW(p); INC(i) END; NEW(p.n.n)", "", api.TrapNil)
+}
+
+// P23.1: variables and frames that are as great as may be.
+func TestGreat(t *testing.T) {
+	l := sample.Trees("MODULE A; VAR a: ARRAY 1024 OF ARRAY 16 OF INTEGER; PROCEDURE p*(n: INTEGER): INTEGER; VAR l: ARRAY 1000 OF INTEGER; k: ARRAY 1000 OF INTEGER; m: ARRAY 47 OF INTEGER; BEGIN l[999] := n; k[999] := 2; m[46] := 1; a[1023, 15] := 3 RETURN l[999] + k[999] + m[46] + a[1023, 15] END p; END A.",
+		"MODULE B; IMPORT A, Out; VAR a: ARRAY 1024 OF ARRAY 16 OF INTEGER; BEGIN a[1023, 15] := 4; Out.Int(A.p(10) + a[1023, 15]) END B.")
+	same(t, "great", Run(nil, 0, much, l...), api.Result{Out: []byte("20"), End: api.Halted})
 }
 
 // P23.1: modules one by one; records of one extended by another; variables of another.

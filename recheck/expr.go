@@ -140,7 +140,7 @@ func (c *checker) call(e api.Expr) api.Errno {
 		return api.ErrType
 	}
 	for i, p := range q.Params {
-		is := false
+		var is bool
 		if p.Ref {
 			is = c.mayBeAssigned(e.X[i]) && types.Same(p.T, e.X[i].T)
 		} else {

@@ -79,7 +79,7 @@ const wrong api.Errno = 1
 
 // P17.1: names.
 func TestIdent(t *testing.T) {
-	for _, s := range []string{"a", "Z", "x1", "In", "Out", "Begin", "ARRAYS", "integer", "ABSOLUTE", "SE", "NT", strings.Repeat("a", 32), "LENGTH", "E"} {
+	for _, s := range []string{"a", "z", "A", "Z", "x1", "a0", "a9", "zZ90", "In", "Out", "Begin", "ARRAYS", "integer", "ABSOLUTE", "SE", "NT", strings.Repeat("a", 32), "LENGTH", "E"} {
 		if !Ident(s) {
 			t.Errorf("%q isn't", s)
 		}
@@ -268,6 +268,12 @@ func TestTypes(t *testing.T) {
 		{"in itself, in an array", func(m *api.Module) { m.Recs[0].Fields[0].T = array(2, rec("M.W")) }, wrong},
 		{"pointer to itself", func(m *api.Module) { m.Recs[0].Fields[0].T = ptr("M.V"); m.Vars = nil; m.Procs = nil }, api.OK},
 		{"too many words", func(m *api.Module) { m.Recs[0].Fields[0].T = big }, wrong},
+		{"too many words together", func(m *api.Module) {
+			m.Recs = append(m.Recs, api.Rec{Name: "X", Fields: []api.Var{{Name: "a", T: array(1024, array(8, integer))}, {Name: "b", T: array(1024, array(8, integer))}, {Name: "c", T: integer}}})
+		}, wrong},
+		{"as many words as may be", func(m *api.Module) {
+			m.Recs = append(m.Recs, api.Rec{Name: "X", Fields: []api.Var{{Name: "a", T: array(1024, array(8, integer))}, {Name: "b", T: array(1024, array(8, integer))}}})
+		}, api.OK},
 		{"words of an array", func(m *api.Module) { m.Names[0].T = big }, wrong},
 		{"hidden record", func(m *api.Module) { m.Names[0].T = rec("N.H") }, api.ErrName},
 		{"hidden record in an array", func(m *api.Module) { m.Names[0].T = array(2, array(2, ptr("N.H"))) }, api.ErrName},
@@ -290,6 +296,13 @@ func TestTypes(t *testing.T) {
 		{"parameter's record", func(m *api.Module) { m.Procs[4].Params[0].T = rec("K.R") }, api.ErrName},
 		{"parameter's words", func(m *api.Module) { m.Procs[4].Params[0].T = big }, wrong},
 		{"array as a value", func(m *api.Module) { m.Procs[1].Params[0].T = array(2, integer) }, api.ErrType},
+		{"array as a value that nobody uses", func(m *api.Module) { m.Procs[0].Params = []api.Param{{Name: "a", T: array(2, integer)}} }, api.ErrType},
+		{"record as a result that is returned", func(m *api.Module) {
+			m.Procs[0].Result, m.Procs[0].Ret = rec("M.V"), []api.Expr{name("M.v", rec("M.V"))}
+		}, api.ErrType},
+		{"pointer as a result that is returned", func(m *api.Module) {
+			m.Procs[0].Result, m.Procs[0].Ret = ptr("M.V"), []api.Expr{name("M.vp", ptr("M.V"))}
+		}, api.OK},
 		{"record as a value", func(m *api.Module) { m.Procs[1].Params[0].T = rec("M.V") }, api.ErrType},
 		{"nil as a value", func(m *api.Module) { m.Procs[0].Params = []api.Param{{Name: "a", T: api.Type{Form: api.Nil}}} }, api.ErrType},
 		{"record as a result", func(m *api.Module) { m.Procs[0].Result = rec("M.V") }, api.ErrType},
