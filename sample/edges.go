@@ -50,7 +50,7 @@ func Far() string {
 
 // Heap tells a module that needs ten words of the heap.
 func Heap() string {
-	return "MODULE M; IMPORT Out; TYPE R = RECORD a: ARRAY 3 OF INTEGER END; S = RECORD (R) b: CHAR END; E = RECORD END; VAR r: POINTER TO R; s: POINTER TO S; e: POINTER TO E; BEGIN NEW(r); r.a[2] := -1; Out.Char(\"r\"); NEW(s); ASSERT(s.b = 0X); s.b := \"x\"; Out.Char(\"s\"); NEW(e); ASSERT(r.a[2] + 1 = 0); Out.Char(\"e\") END M."
+	return "MODULE M; IMPORT Out; TYPE R = RECORD a: ARRAY 3 OF INTEGER END; S = RECORD (R) b: CHAR END; E = RECORD END; VAR r: POINTER TO R; s: POINTER TO S; e: POINTER TO E; BEGIN NEW(e); Out.Char(\"e\"); NEW(r); r.a[2] := -1; Out.Char(\"r\"); NEW(s); ASSERT(s.b = 0X); s.b := \"x\"; Out.Char(\"s\"); ASSERT(r.a[2] + 1 = 0) END M."
 }
 
 // Writes tells a module that writes and ends.

@@ -101,7 +101,7 @@ func (t *trial) limits() {
 	for _, heap := range []int{16384, 16385, 32769, 32770, 40000} {
 		t.try("a great record", nil, heap, sample.Trees(sample.Far())...)
 	}
-	for _, heap := range []int{-1, 0, 3, 4, 8, 9, 10, 11, 1 << 16} {
+	for _, heap := range []int{-1, 0, 1, 4, 5, 9, 10, 11, 1 << 16} {
 		t.try("a heap of "+strconv.Itoa(heap), nil, heap, sample.Trees(sample.Heap())...)
 	}
 	m := sample.Trees(sample.Writes())[0]
