@@ -152,11 +152,7 @@ func (g *generator) strip() {
 	g.get(worthAt)
 	g.put(api.CLt)
 	found := g.jump(api.Zero)
-	g.get(worthAt)
-	g.push(1)
-	g.put(api.CEq)
-	g.not()
-	last := g.jump(api.Zero)
+	last := g.last()
 	g.tenth()
 	g.with(api.Jump, loop)
 	g.land(found)
@@ -175,14 +171,19 @@ func (g *generator) digits() {
 	g.get(worthAt)
 	g.put(api.CMod)
 	g.set(leftAt)
+	last := g.last()
+	g.tenth()
+	g.with(api.Jump, loop)
+	g.land(last)
+}
+
+// last tells where it jumps, if the next digit is the last one.
+func (g *generator) last() int {
 	g.get(worthAt)
 	g.push(1)
 	g.put(api.CEq)
 	g.not()
-	last := g.jump(api.Zero)
-	g.tenth()
-	g.with(api.Jump, loop)
-	g.land(last)
+	return g.jump(api.Zero)
 }
 
 // tenth makes what goes on to the next digit.
