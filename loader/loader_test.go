@@ -237,9 +237,9 @@ func TestTogether(t *testing.T) {
 	}{
 		"name":   {api.Module{Name: "In"}, api.ErrName},
 		"type":   {api.Module{Name: "M", Vars: []api.Var{{Name: "v"}}}, api.ErrType},
-		"limit":  {api.Module{Name: "M", Recs: []api.Rec{{Name: "R", Fields: []api.Var{{Name: "f", T: api.Type{Form: api.Record, Name: "M.R"}}}}}}, api.ErrLimit},
+		"itself": {api.Module{Name: "M", Recs: []api.Rec{{Name: "R", Fields: []api.Var{{Name: "f", T: api.Type{Form: api.Record, Name: "M.R"}}}}}}, api.ErrType},
 		"twice":  {api.Module{Name: "M", Imports: []string{"In", "In"}}, api.ErrName},
-		"frames": {api.Module{Name: "M", Procs: []api.Proc{{Name: "p", Locals: []api.Var{{Name: "l", T: api.Type{Form: api.Array, N: 1024, Of: []api.Type{{Form: api.Array, N: 3, Of: []api.Type{{Form: api.Int}}}}}}}}}}, api.ErrLimit},
+		"frames": {api.Module{Name: "M", Procs: []api.Proc{{Name: "p", Locals: []api.Var{{Name: "l", T: api.Type{Form: api.Array, N: 1024, Of: []api.Type{{Form: api.Array, N: 3, Of: []api.Type{{Form: api.Int}}}}}}}}}}, api.ErrType},
 	} {
 		loaded(t, what, x.want, a, pack(t, x.m))
 	}

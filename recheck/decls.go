@@ -32,7 +32,7 @@ func (c *checker) declared() api.Errno {
 		return err
 	}
 	if sum > api.MaxWords {
-		return api.ErrLimit
+		return api.ErrType
 	}
 	return each(c.m.Procs, c.heading)
 }
@@ -49,7 +49,7 @@ func (c *checker) typ(t api.Type) api.Errno {
 	if (in.Form == api.Record || in.Form == api.Pointer) && c.named[in.Name] == 0 {
 		return api.ErrName
 	}
-	return unless(c.size(t).ok, api.ErrLimit)
+	return unless(c.size(t).ok, api.ErrType)
 }
 
 // size tells how many words a type has; all that a record has in it is gone through but once.
@@ -79,7 +79,7 @@ func (c *checker) record(r api.Rec) api.Errno {
 	}
 	name := c.own + r.Name
 	if !c.size(api.Type{Form: api.Record, Name: name}).ok {
-		return api.ErrLimit
+		return api.ErrType
 	}
 	l, ok := types.Fields(name, c.recs)
 	return unless(ok && len(places(l)) == len(l), api.ErrName)
@@ -181,7 +181,7 @@ func (c *checker) heading(q api.Proc) api.Errno {
 	if err != api.OK {
 		return err
 	}
-	return unless(len(q.Params)+sum <= api.MaxFrame, api.ErrLimit)
+	return unless(len(q.Params)+sum <= api.MaxFrame, api.ErrType)
 }
 
 // localNames tells the names that a procedure declares.

@@ -56,7 +56,7 @@ func with(t *testing.T, stmts string) api.Module {
 	return compiled(t, declared+"BEGIN "+stmts+" END M.", modules(t)...)
 }
 
-// want checks what Check tells of m (any: any error).
+// want checks what Check tells of m (wrong: any error); ErrLimit is of what isn't small alone.
 func want(t *testing.T, what string, m api.Module, err api.Errno) {
 	t.Helper()
 	before := tree.Clone(m)
@@ -68,6 +68,9 @@ func want(t *testing.T, what string, m api.Module, err api.Errno) {
 	case api.OK, api.ErrName, api.ErrType, api.ErrLimit, api.ErrImport:
 	default:
 		t.Errorf("%s: %v is no error of this layer", what, got)
+	}
+	if (got == api.ErrLimit) == tree.Small(m) {
+		t.Errorf("%s: %v, small: %v", what, got, tree.Small(m))
 	}
 	if !tree.Same(m, before) {
 		t.Errorf("%s: what was handed in is changed", what)
@@ -316,7 +319,7 @@ func TestWords(t *testing.T) {
 	m := api.Module{Name: "M", Procs: []api.Proc{{Name: "p", Params: []api.Param{{Name: "a", T: integer}, {Name: "b", Ref: true, T: array(1000, integer)}}, Locals: []api.Var{{Name: "c", T: array(1023, integer)}, {Name: "d", T: array(1023, char)}}}}}
 	want(t, "frame", m, api.OK)
 	m.Procs[0].Locals = append(m.Procs[0].Locals, api.Var{Name: "e", T: boolean})
-	want(t, "frame and one", m, api.ErrLimit)
+	want(t, "frame and one", m, api.ErrType)
 	m.Procs[0].Locals[2].T = rec("M.R")
 	m.Recs = []api.Rec{{Name: "R"}}
 	want(t, "frame and nothing", m, api.OK)
@@ -325,7 +328,7 @@ func TestWords(t *testing.T) {
 	m.Vars = append(m.Vars, api.Var{Name: "c", T: rec("M.R")})
 	want(t, "variables and nothing", m, api.OK)
 	m.Vars[2].T = set
-	want(t, "variables and one", m, api.ErrLimit)
+	want(t, "variables and one", m, api.ErrType)
 }
 
 // P17.2: constants.
