@@ -26,6 +26,11 @@ func needs(n int) api.Expr {
 	return e
 }
 
+// regs tells a module that needs so many registers.
+func regs(name string, n int) api.Module {
+	return api.Module{Name: name, Body: []api.Stmt{{X: []api.Expr{needs(n)}}}}
+}
+
 // array tells an array.
 func array(n int, t api.Type) api.Type {
 	return api.Type{Form: api.Array, N: n, Of: []api.Type{t}}
@@ -101,7 +106,7 @@ func TestSize(t *testing.T) {
 		want int
 		ok   bool
 	}{
-		{m(), nil, 0, true}, {m(integer, array(5, integer)), nil, 6, true}, {m(rec("M.T")), []api.Module{l}, 5, true}, {m(rec("M.T"), rec("L.R")), []api.Module{l, other}, 8, true}, {m(rec("M.T")), []api.Module{other, l}, 0, false}, {m(rec("L.R")), []api.Module{other, l}, 0, true}, {m(rec("L.Q")), []api.Module{l, other}, 0, false}, {m(rec("M.T")), nil, 0, false}, {m(integer, api.Type{}), nil, 0, false}, {m(rec("M.T")), []api.Module{{Name: "M"}, l}, 5, true}, {m(array(1024, array(16, integer)), array(1024, array(16, integer))), nil, 32768, true}, {m(array(1024, array(17, integer))), nil, 0, false},
+		{m(), nil, 0, true}, {m(integer, array(5, integer)), nil, 6, true}, {m(rec("M.T")), []api.Module{l}, 5, true}, {m(rec("M.T"), rec("L.R")), []api.Module{l, other}, 8, true}, {m(rec("M.T")), []api.Module{other, l}, 0, false}, {m(rec("L.R")), []api.Module{other, l}, 0, true}, {m(rec("L.Q")), []api.Module{l, other}, 0, false}, {m(rec("M.T")), nil, 0, false}, {m(integer, api.Type{}), nil, 0, false}, {m(array(2, array(3, rec("L.S")))), []api.Module{l}, 24, true}, {m(integer, array(2, rec("L.Q"))), []api.Module{l}, 0, false}, {m(api.Type{Form: api.Pointer, Name: "L.Q"}), nil, 1, true}, {m(api.Type{Form: api.Array, N: 2, Of: []api.Type{integer, rec("L.R")}}), []api.Module{l}, 0, false}, {m(rec("M.T")), []api.Module{{Name: "M"}, l}, 5, true}, {m(array(1024, array(16, integer)), array(1024, array(16, integer))), nil, 32768, true}, {m(array(1024, array(17, integer))), nil, 0, false},
 	} {
 		before := tree.Clone(x.m)
 		if got, ok := Size(x.m, x.mods...); got != x.want || ok != x.ok {
@@ -115,9 +120,6 @@ func TestSize(t *testing.T) {
 
 // P22.1: what both targets can bear, at each limit and one past it.
 func TestCheck(t *testing.T) {
-	regs := func(name string, n int) api.Module {
-		return api.Module{Name: name, Body: []api.Stmt{{X: []api.Expr{needs(n)}}}}
-	}
 	words := func(name string, n int) api.Module {
 		return api.Module{Name: name, Vars: []api.Var{{T: array(n/16, array(16, integer))}}}
 	}
@@ -138,10 +140,37 @@ func TestCheck(t *testing.T) {
 		{[]api.Module{words("A", 8192), words("B", 8192)}, api.OK}, {[]api.Module{words("A", 8192), words("B", 8208)}, api.ErrWords}, {[]api.Module{words("A", 16384)}, api.OK},
 		{[]api.Module{units("A", 4000), units("B", 4000)}, api.OK}, {[]api.Module{units("A", 4000), units("B", 4001)}, api.ErrWords}, {[]api.Module{units("A", 8001)}, api.ErrWords}, {[]api.Module{units("A", 8000)}, api.OK},
 		{[]api.Module{ring}, api.ErrWords}, {[]api.Module{ring, {Name: "B", Recs: []api.Rec{{Name: "R"}}}}, api.OK}, {[]api.Module{ring, {Name: "B"}, {Name: "B", Recs: []api.Rec{{Name: "R"}}}}, api.ErrWords},
-		{[]api.Module{ring, regs("B", 13)}, api.ErrRegs}, {[]api.Module{units("A", 9000), regs("B", 13)}, api.ErrRegs}, {[]api.Module{words("A", 16384), words("A", 16384), regs("A", 13), units("A", 8001)}, api.OK},
+		{[]api.Module{ring, regs("B", 13)}, api.ErrRegs}, {[]api.Module{units("A", 9000), regs("B", 13)}, api.ErrRegs},
+		{[]api.Module{units("A", 4000), units("A", 4000)}, api.OK}, {[]api.Module{units("A", 4000), units("A", 4001)}, api.ErrWords}, {[]api.Module{units("A", 1), units("B", 0), units("A", 8000)}, api.ErrWords},
+		{[]api.Module{words("A", 8192), words("A", 8192)}, api.OK}, {[]api.Module{words("A", 8192), words("A", 8208)}, api.ErrWords},
+		{[]api.Module{regs("A", 12), regs("A", 12)}, api.OK}, {[]api.Module{regs("A", 12), regs("A", 13)}, api.ErrRegs}, {[]api.Module{words("A", 16384), words("A", 16384), regs("A", 13), units("A", 8001)}, api.ErrRegs},
+		{[]api.Module{{Name: "A"}, ring}, api.ErrWords}, {[]api.Module{{Name: "A"}, ring, {Name: "B", Recs: []api.Rec{{Name: "R"}}}}, api.OK}, {[]api.Module{ring, {Name: "B", Recs: []api.Rec{{Name: "R"}}}, {Name: "A", Vars: []api.Var{{T: rec("A.R")}}}}, api.ErrWords},
 	} {
 		if got := Check(x.l...); got != x.want {
 			t.Errorf("%d: %v, want %v", i, got, x.want)
+		}
+	}
+}
+
+// P22.1: also of very many modules all count.
+func TestMany(t *testing.T) {
+	for _, more := range []string{"", "x"} {
+		var l []api.Module
+		name := ""
+		for range 8000 {
+			l = append(l, api.Module{Name: name, Vars: []api.Var{{T: integer}}, Body: make([]api.Stmt, 1)})
+			if len(name) < 40 {
+				name += more
+			}
+		}
+		if got := Check(l...); got != api.OK {
+			t.Errorf("8000 of %q: %v", more, got)
+		}
+		if got := Check(append(l, api.Module{Recs: make([]api.Rec, 1)})...); got != api.ErrWords {
+			t.Errorf("8001 of %q: %v", more, got)
+		}
+		if got := Check(append(l, regs("", 13))...); got != api.ErrRegs {
+			t.Errorf("13 registers behind 8000 of %q: %v", more, got)
 		}
 	}
 }
